@@ -1,0 +1,1 @@
+"""Slidebox: words put into boxes, and what stays when they are changed."""

@@ -1,0 +1,138 @@
+"""What several test files need: things of any kind, all small words and boxes, and boxes told without putting in."""
+
+from itertools import combinations, product
+
+from slidebox.errors import BoxError
+
+# A row of words that are spread over all letters, of each length from 0 to 16.
+LONG_WORDS = [tuple((7 * k * k + 11 * k) % 30 + 1 for k in range(length)) for length in range(17)]
+LONG_WORDS += [tuple((5 * k * k + 2 * k) % 4 + 1 for k in range(length)) for length in range(17)]
+EDGE_WORDS = [
+    (), (1,), (30,), (30,) * 16, (1,) * 16,
+    tuple(range(1, 17)), tuple(range(15, 31)),
+    tuple(range(16, 0, -1)), tuple(range(30, 14, -1)),
+    (1, 30) * 8, (30, 1) * 8,
+]
+
+ROW_OF_16 = (1,) * 16
+COLUMN_OF_16 = tuple((letter,) for letter in range(1, 17))
+SQUARE_OF_16 = ((1, 1, 1, 1), (2, 2, 2, 2), (3, 3, 3, 3), (30, 30, 30, 30))
+
+
+def strange_things():
+    """Things of any kind that are no word, no shape, no box, no letter and no row; new ones each time."""
+    return [
+        None, True, False, -1, 31, 10 ** 40, -10 ** 40, 1.0, 1.5, float("nan"), 2j,
+        "", "1", "abc", "12 / 3", b"", b"\x01", [], [1], [1, 2], [[1, 2], [3]], [(1, 2), (3,)],
+        {}, {1: 2}, {0: (1,)}, set(), {1}, frozenset([1]), range(3), object(), int, len, iter((1, 2)),
+        (None,), (True,), (False,), (1, True), (1.0,), ("1",), ("a", 1), ([],), ([1],), ([1], [2]), ({},), ({1: 1},),
+        ((),), ((1,), ()), ((), (1,)), (((),),), (((1,),),), ((1,), None), ((1,), 2), (1, (2,)), ((1,), [2]),
+        ((1,), "2"), ((1,), {2: 2}), ([1, 2], (3,)), ((1, None),), ((1, True),), ((True,),), ((False,), (1,)),
+        ((1, 2.0),), (("1",),), (([1],),), (({},),), ((1, [2]),), (set(),), (object(),), ((object(),),),
+        (0,), (-1,), ((0,),), ((31,),), (1,) * 17, ((1,) * 17,), ((1,),) * 17,
+    ]
+
+
+def refusal(function, *given):
+    """The very class of the refusal, or None where none came."""
+    try:
+        function(*given)
+    except BoxError as error:
+        return type(error)
+    return None
+
+
+def small_words(letters, most):
+    """All words of the letters from 1 on, of at most so many."""
+    return [word for length in range(most + 1) for word in product(range(1, letters + 1), repeat=length)]
+
+
+def small_shapes(most):
+    """All shapes of at most so many places."""
+    found = [()]
+    for length in range(1, most + 1):
+        for parts in product(range(1, most + 1), repeat=length):
+            if sum(parts) <= most and list(parts) == sorted(parts, reverse=True):
+                found.append(parts)
+    return found
+
+
+def filled(shape, letters):
+    """A shape's rows with these letters, row by row."""
+    rows = []
+    begin = 0
+    for length in shape:
+        rows.append(tuple(letters[begin:begin + length]))
+        begin += length
+    return tuple(rows)
+
+
+def stands_well(rows):
+    """Whether no place of these rows is against point 3, place by place."""
+    places = {(r, c): letter for r, row in enumerate(rows) for c, letter in enumerate(row)}
+    return all(
+        letter <= places.get((r, c + 1), letter) and letter < places.get((r + 1, c), letter + 1)
+        for (r, c), letter in places.items()
+    )
+
+
+def small_boxes(letters, most):
+    """All boxes of the letters from 1 on, of at most so many places."""
+    fillings = [filled(shape, parts) for shape in small_shapes(most)
+                for parts in product(range(1, letters + 1), repeat=sum(shape))]
+    return [rows for rows in fillings if stands_well(rows)]
+
+
+def full_boxes_of(shape):
+    """All full boxes of a shape, grown place by place."""
+    grown = [((),) * len(shape)]
+    for number in range(1, sum(shape) + 1):
+        grown = [rows[:r] + (rows[r] + (number,),) + rows[r + 1:] for rows in grown for r in range(len(shape))
+                 if len(rows[r]) < shape[r] and (r == 0 or len(rows[r]) < len(rows[r - 1]))]
+    return grown
+
+
+def corner_rows(box):
+    """The rows of a box that have a corner."""
+    return [r for r in range(len(box)) if r + 1 == len(box) or len(box[r]) > len(box[r + 1])]
+
+
+def longest_fall_of(word):
+    """How many places the longest fall of a word has."""
+    ends = []
+    for k, letter in enumerate(word):
+        ends.append(1 + max([ends[j] for j in range(k) if word[j] > letter], default=0))
+    return max(ends, default=0)
+
+
+def most_in_rises(word, many):
+    """How many places so many rises have together at most: a choice is so many rises if no fall in it is longer."""
+    for size in range(len(word), -1, -1):
+        if any(longest_fall_of(choice) <= many for choice in combinations(word, size)):
+            return size
+
+
+def shape_by_rises(word):
+    """The shape of a word's box by point 9, no box being made."""
+    sums = [0]
+    while sums[-1] < len(word):
+        sums.append(most_in_rises(word, len(sums)))
+    return tuple(b - a for a, b in zip(sums, sums[1:]))
+
+
+def box_of_shapes(steps):
+    """The rows that hold each step's number where its shape has more than the one ahead."""
+    rows = [[] for length in steps[-1]]
+    for number, shape in enumerate(steps, start=1):
+        for r, length in enumerate(shape):
+            rows[r] += [number] * (length - len(rows[r]))
+    return tuple(tuple(row) for row in rows)
+
+
+def boxes_by_rises(word):
+    """Both boxes of a word, by the shapes of its small letters and of its beginnings."""
+    if word == ():
+        return ((), ())
+    by_letter = [shape_by_rises([x for x in word if x <= most]) for most in range(1, max(word) + 1)]
+    by_time = [shape_by_rises(word[:length]) for length in range(1, len(word) + 1)]
+    return (box_of_shapes(by_letter), box_of_shapes(by_time))

@@ -1,0 +1,40 @@
+"""The refusals of the interface."""
+
+import unittest
+
+from slidebox import errors
+from slidebox.pairs import boxes, reading, word_of
+from slidebox.putting import put_in, taken_out
+from slidebox.things import turned_shape
+from tests.helpers import ROW_OF_16
+
+NAMES = ["NoWord", "NoShape", "NoBox", "NoPlace", "NoTable", "NoText", "Unlike", "TooMany", "TooBig"]
+
+
+class Refusals(unittest.TestCase):
+    def test_box_error_is_a_value_error(self):
+        self.assertTrue(issubclass(errors.BoxError, ValueError))
+
+    def test_each_one_is_taken_by_both(self):
+        for name in NAMES:
+            for wider in (errors.BoxError, ValueError):
+                with self.subTest(name=name, wider=wider), self.assertRaises(wider):
+                    raise getattr(errors, name)("words")
+
+    def test_none_is_taken_by_another(self):
+        for name in NAMES:
+            for other in NAMES:
+                with self.subTest(name=name, other=other):
+                    one = getattr(errors, name)
+                    self.assertEqual(issubclass(one, getattr(errors, other)), name == other)
+
+    def test_what_is_raised_is_taken_by_both(self):
+        calls = [
+            lambda: turned_shape(None), lambda: boxes(None), lambda: reading(None), lambda: word_of(None, None),
+            lambda: word_of(((1,),), ()), lambda: put_in(None, 1), lambda: put_in((), None),
+            lambda: put_in((ROW_OF_16,), 1), lambda: taken_out(None, 0), lambda: taken_out((), 0),
+        ]
+        for call in calls:
+            for wider in (errors.BoxError, ValueError):
+                with self.assertRaises(wider):
+                    call()
