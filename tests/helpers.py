@@ -67,9 +67,15 @@ def filled(shape, letters):
     return tuple(rows)
 
 
-def stands_well(rows):
-    """Whether no place of these rows is against point 3, place by place."""
-    places = {(r, c): letter for r, row in enumerate(rows) for c, letter in enumerate(row)}
+def letters_by_place(rows, hole=()):
+    """The letters of rows that stand behind a hole, by their places."""
+    begins = hole + (0,) * len(rows)
+    return {(r, begins[r] + c): letter for r, row in enumerate(rows) for c, letter in enumerate(row)}
+
+
+def stands_well(rows, hole=()):
+    """Whether no two letters side by side in these rows are against point 3, place by place."""
+    places = letters_by_place(rows, hole)
     return all(
         letter <= places.get((r, c + 1), letter) and letter < places.get((r + 1, c), letter + 1)
         for (r, c), letter in places.items()
@@ -81,6 +87,31 @@ def small_boxes(letters, most):
     fillings = [filled(shape, parts) for shape in small_shapes(most)
                 for parts in product(range(1, letters + 1), repeat=sum(shape))]
     return [rows for rows in fillings if stands_well(rows)]
+
+
+def inner_shapes(outer):
+    """All shapes that lie in a shape."""
+    inner = [shape for shape in small_shapes(sum(outer)) if len(shape) <= len(outer)]
+    return [shape for shape in inner if all(part <= whole for part, whole in zip(shape, outer))]
+
+
+def row_lengths(outer, hole):
+    """How many letters each row has between a hole and an outer shape."""
+    return [whole - part for whole, part in zip(outer, hole + (0,) * len(outer))]
+
+
+def small_holed(letters, most):
+    """All boxes with a hole of the letters from 1 on, of at most so many places together."""
+    pairs = [(outer, hole) for outer in small_shapes(most) for hole in inner_shapes(outer)]
+    fillings = [(hole, filled(row_lengths(outer, hole), parts)) for outer, hole in pairs
+                for parts in product(range(1, letters + 1), repeat=sum(outer) - sum(hole))]
+    return [(hole, rows) for hole, rows in fillings if stands_well(rows, hole)]
+
+
+def cut_out(box, hole):
+    """The box with a hole that is left of a box where the hole's letters are taken away."""
+    begins = hole + (0,) * len(box)
+    return (hole, tuple(row[begins[r]:] for r, row in enumerate(box)))
 
 
 def full_boxes_of(shape):
@@ -95,6 +126,36 @@ def full_boxes_of(shape):
 def corner_rows(box):
     """The rows of a box that have a corner."""
     return [r for r in range(len(box)) if r + 1 == len(box) or len(box[r]) > len(box[r + 1])]
+
+
+def exchanges_of(word):
+    """All words that one exchange makes of a word, each rule of point 7 there and back as it is told."""
+    found = set()
+    for k in range(len(word) - 2):
+        a, b, c = word[k:k + 3]
+        made = []
+        if b < a <= c:      # (y, x, z), x < y <= z
+            made.append((a, c, b))
+        if c < a <= b:      # (y, z, x)
+            made.append((a, c, b))
+        if a <= c < b:      # (x, z, y), x <= y < z
+            made.append((b, a, c))
+        if b <= c < a:      # (z, x, y)
+            made.append((b, a, c))
+        found.update(word[:k] + three + word[k + 3:] for three in made)
+    return found
+
+
+def distances_from(word):
+    """Each word that exchanges make of a word, with the number of exchanges it takes at least."""
+    distances = {word: 0}
+    newest = [word]
+    while newest:
+        newest = [(other, distances[one] + 1) for one in newest for other in exchanges_of(one)
+                  if other not in distances]
+        distances.update(newest)
+        newest = list(dict(newest))
+    return distances
 
 
 def longest_fall_of(word):

@@ -3,9 +3,13 @@
 import unittest
 
 from slidebox import errors
+from slidebox.exchanges import alike, exchanged, road
 from slidebox.pairs import boxes, reading, word_of
 from slidebox.putting import put_in, taken_out
+from slidebox.rises import cover, longest_fall, longest_rise, rises
+from slidebox.sliding import holes, slid, together
 from slidebox.things import turned_shape
+from slidebox.turning import evacuated, turned
 from tests.helpers import ROW_OF_16
 
 NAMES = ["NoWord", "NoShape", "NoBox", "NoPlace", "NoTable", "NoText", "Unlike", "TooMany", "TooBig"]
@@ -33,6 +37,11 @@ class Refusals(unittest.TestCase):
             lambda: turned_shape(None), lambda: boxes(None), lambda: reading(None), lambda: word_of(None, None),
             lambda: word_of(((1,),), ()), lambda: put_in(None, 1), lambda: put_in((), None),
             lambda: put_in((ROW_OF_16,), 1), lambda: taken_out(None, 0), lambda: taken_out((), 0),
+            lambda: exchanged(None), lambda: alike(None, ()), lambda: alike((), None), lambda: road(None, ()),
+            lambda: road((), None), lambda: longest_rise(None), lambda: longest_fall(None), lambda: cover(None),
+            lambda: rises(None, 1), lambda: holes(None), lambda: slid(None, 0), lambda: slid(((), ()), 0),
+            lambda: together(None), lambda: turned(None), lambda: turned(((2,),)), lambda: evacuated(None),
+            lambda: evacuated(((2,),)),
         ]
         for call in calls:
             for wider in (errors.BoxError, ValueError):
