@@ -1,7 +1,7 @@
 """Boxes with a hole, and how they are slid together."""
 
 from slidebox.errors import NoBox, NoPlace
-from slidebox.things import does_not_fall, has_corner, is_shape, is_word, rises_down, shape_of
+from slidebox.things import does_not_fall, has_corner, is_shape, is_word, rises_down, row_length, shape_of
 
 # Stands in the places of the hole, where it is counted but never compared.
 EMPTY = 0
@@ -35,7 +35,7 @@ def slid(holed, row):
     # A row of the hole that lost its only place is the last one, and no row of a shape is empty.
     lengths = hole[:row] + (hole[row] - 1,) + hole[row + 1:]
     hole_left = tuple([length for length in lengths if length > 0])
-    return (hole_left, tuple([part[hole_length(hole_left, number):] for number, part in enumerate(rows)]))
+    return (hole_left, tuple([part[row_length(hole_left, number):] for number, part in enumerate(rows)]))
 
 
 def together(holed):
@@ -47,17 +47,13 @@ def together(holed):
     return left[1]
 
 
-def hole_length(hole, row):
-    return hole[row] if row < len(hole) else 0
-
-
 def with_hole(hole, rows):
-    return tuple([(EMPTY,) * hole_length(hole, number) + row for number, row in enumerate(rows)])
+    return tuple([(EMPTY,) * row_length(hole, number) + row for number, row in enumerate(rows)])
 
 
 def columns_rise(hole, rows):
     # Where the upper place is empty there are no two letters; the lower one may be empty there alone.
-    begins = [hole_length(hole, number) for number in range(len(rows))]
+    begins = [row_length(hole, number) for number in range(len(rows))]
     return all([rises_down(upper[begin:], lower[begin:]) for begin, upper, lower in zip(begins, rows, rows[1:])])
 
 

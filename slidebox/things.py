@@ -64,6 +64,11 @@ def turned_shape(shape):
     return tuple([column_length(shape, column) for column in range(columns)])
 
 
+def row_length(shape, row):
+    # Behind the last row there is nothing.
+    return shape[row] if row < len(shape) else 0
+
+
 def column_length(shape, column):
     return len([length for length in shape if length > column])
 

@@ -14,9 +14,25 @@ EDGE_WORDS = [
     (1, 30) * 8, (30, 1) * 8,
 ]
 
+# Words of unlike letters 1 to n, of each length to 16: the order in which multiples of 3, 5 or 7 are met in a ring.
+UNLIKE_WORDS = [tuple(k * step % modulus for k in range(1, modulus))
+                for modulus in (2, 3, 4, 5, 7, 8, 11, 13, 16, 17) for step in (1, 3, 5, 7)
+                if sorted(k * step % modulus for k in range(1, modulus)) == list(range(1, modulus))]
+UNLIKE_WORDS += [tuple(sorted(range(1, length + 1), key=lambda k: k * k * 7 % 23 * 100 + k)) for length in range(17)]
+
 ROW_OF_16 = (1,) * 16
 COLUMN_OF_16 = tuple((letter,) for letter in range(1, 17))
 SQUARE_OF_16 = ((1, 1, 1, 1), (2, 2, 2, 2), (3, 3, 3, 3), (30, 30, 30, 30))
+WRONG_SHAPES = [
+    5, None, "", "21", [], [2, 1], {}, {2: 1}, (0,), (2, 0), (1, 2), (3, 1, 2), (-1,), (3, -1), (17,), (1,) * 17,
+    (16, 1), (9, 8), (True,), (2, True), (1, False), (False,), (2, None), (2, "1"), (2, [1]), ((2, 1),), ((2,), (1,)),
+    (2.0, 1),
+]
+WRONG_BOXES = [
+    5, None, "", "1", [], {}, (1, 2), [(1,)], ([1],), ((1, 2), [3]), ((),), ((1,), ()), ((2, 1),), ((1,), (1,)),
+    ((2,), (1,)), ((1,), (2, 3)), ((0,),), ((31,),), ((1,) * 17,), (ROW_OF_16, (2,)), ((True,),), ((1, True),),
+    ((1, False),), ((1, None),), ((1, (2,)),), ("12", "3"), ((1,), "2"),
+]
 
 
 def strange_things():
@@ -47,14 +63,17 @@ def small_words(letters, most):
     return [word for length in range(most + 1) for word in product(range(1, letters + 1), repeat=length)]
 
 
+def shapes_of(places, longest=16):
+    """All shapes of just so many places, no row longer than told."""
+    if places == 0:
+        return [()]
+    return [(first,) + rest for first in range(min(places, longest), 0, -1)
+            for rest in shapes_of(places - first, first)]
+
+
 def small_shapes(most):
     """All shapes of at most so many places."""
-    found = [()]
-    for length in range(1, most + 1):
-        for parts in product(range(1, most + 1), repeat=length):
-            if sum(parts) <= most and list(parts) == sorted(parts, reverse=True):
-                found.append(parts)
-    return found
+    return [shape for places in range(most + 1) for shape in shapes_of(places)]
 
 
 def filled(shape, letters):

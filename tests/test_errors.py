@@ -3,11 +3,15 @@
 import unittest
 
 from slidebox import errors
+from slidebox.counting import full_boxes, hooks, how_many
 from slidebox.exchanges import alike, exchanged, road
 from slidebox.pairs import boxes, reading, word_of
+from slidebox.products import lattice_boxes, product
 from slidebox.putting import put_in, taken_out
 from slidebox.rises import cover, longest_fall, longest_rise, rises
 from slidebox.sliding import holes, slid, together
+from slidebox.tables import growth, pair_of, table_of
+from slidebox.texts import read, shown
 from slidebox.things import turned_shape
 from slidebox.turning import evacuated, turned
 from tests.helpers import ROW_OF_16
@@ -41,7 +45,15 @@ class Refusals(unittest.TestCase):
             lambda: road((), None), lambda: longest_rise(None), lambda: longest_fall(None), lambda: cover(None),
             lambda: rises(None, 1), lambda: holes(None), lambda: slid(None, 0), lambda: slid(((), ()), 0),
             lambda: together(None), lambda: turned(None), lambda: turned(((2,),)), lambda: evacuated(None),
-            lambda: evacuated(((2,),)),
+            lambda: evacuated(((2,),)), lambda: hooks(None), lambda: how_many(None), lambda: full_boxes(None),
+            lambda: full_boxes((4, 3, 3)), lambda: product(None, ()), lambda: product((), None),
+            lambda: product((ROW_OF_16,), ((1,),)), lambda: lattice_boxes(None, (), ()),
+            lambda: lattice_boxes((), None, ()), lambda: lattice_boxes((), (), None),
+            lambda: lattice_boxes((9,), (), ()), lambda: pair_of(None), lambda: table_of(None, (), 1, 1),
+            lambda: table_of((), None, 1, 1),
+            lambda: table_of(((1,),), (), 1, 1), lambda: table_of((), (), 6, 1), lambda: table_of((), (), 1, 0),
+            lambda: table_of(((2,),), ((1,),), 1, 1), lambda: growth(None), lambda: growth((1, 1)), lambda: shown(None),
+            lambda: read(None), lambda: read(""), lambda: read("2 1"),
         ]
         for call in calls:
             for wider in (errors.BoxError, ValueError):

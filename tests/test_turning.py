@@ -7,8 +7,8 @@ from slidebox.errors import NoBox
 from slidebox.pairs import boxes
 from slidebox.things import is_full, shape_of, turned_shape
 from slidebox.turning import evacuated, turned
-from tests.helpers import (COLUMN_OF_16, EDGE_WORDS, LONG_WORDS, ROW_OF_16, SQUARE_OF_16, full_boxes_of,
-                           letters_by_place, refusal, small_shapes, strange_things)
+from tests.helpers import (COLUMN_OF_16, EDGE_WORDS, LONG_WORDS, ROW_OF_16, SQUARE_OF_16, UNLIKE_WORDS,
+                           full_boxes_of, letters_by_place, refusal, small_shapes, strange_things)
 
 COUNTING = tuple(range(1, 17))
 SMALL = [box for shape in small_shapes(7) for box in full_boxes_of(shape)]
@@ -19,11 +19,6 @@ LONG = [boxes(word)[1] for word in EDGE_WORDS + LONG_WORDS] + [
     ((1, 2, 5, 10), (3, 4, 7, 12), (6, 9, 11, 14), (8, 13, 15, 16)),
     ((1, 2, 4, 8, 16), (3, 6, 9, 15), (5, 10, 12), (7, 13), (11,), (14,)),
 ]
-# Words of unlike letters 1 to n, of each length to 16: the order in which multiples of 3, 5 or 7 are met in a ring.
-UNLIKE = [tuple(k * step % modulus for k in range(1, modulus))
-          for modulus in (2, 3, 4, 5, 7, 8, 11, 13, 16, 17) for step in (1, 3, 5, 7)
-          if sorted(k * step % modulus for k in range(1, modulus)) == list(range(1, modulus))]
-UNLIKE += [tuple(sorted(range(1, length + 1), key=lambda k: k * k * 7 % 23 * 100 + k)) for length in range(17)]
 WRONG = [
     5, None, "1", [], {}, (1, 2), [(1,)], ([1],), ((2, 1),), ((2,), (1,)), ((1,), (2, 3)), ((),), ((1,), ()),
     ((1, 2), [3]), ((True,),), ((True, 2), (3,)), ((1, 2), (3, False)), (COUNTING + (17,),), ((1, None),), ((1, (2,)),),
@@ -77,7 +72,7 @@ class Turned(unittest.TestCase):
             self.assertEqual(turned(turned(box)), box)
 
     def test_the_reversed_word_has_it(self):
-        for word in list(permutations(range(1, 7))) + UNLIKE:
+        for word in list(permutations(range(1, 7))) + UNLIKE_WORDS:
             self.assertEqual(boxes(word[::-1])[0], turned(boxes(word)[0]))
 
     def test_no_full_box(self):
@@ -108,7 +103,7 @@ class Evacuated(unittest.TestCase):
             self.assertEqual(evacuated(evacuated(box)), box)
 
     def test_the_word_turned_round_and_reversed_has_it(self):
-        for word in list(permutations(range(1, 7))) + UNLIKE:
+        for word in list(permutations(range(1, 7))) + UNLIKE_WORDS:
             self.assertEqual(boxes(turned_round(word)[::-1])[0], evacuated(boxes(word)[0]))
 
     def test_no_full_box(self):
@@ -120,6 +115,6 @@ class Evacuated(unittest.TestCase):
 class Examples(unittest.TestCase):
     def test_they_have_0_to_16_places(self):
         self.assertEqual(sorted(set(sum(shape_of(box)) for box in LONG)), list(range(17)))
-        self.assertEqual(sorted(set(len(word) for word in UNLIKE)), list(range(17)))
-        for word in UNLIKE:
+        self.assertEqual(sorted(set(len(word) for word in UNLIKE_WORDS)), list(range(17)))
+        for word in UNLIKE_WORDS:
             self.assertEqual(sorted(word), list(range(1, len(word) + 1)))
