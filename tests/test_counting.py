@@ -107,13 +107,15 @@ class FullBoxes(unittest.TestCase):
                     found = full_boxes(shape)
                     self.assertIs(type(found), list)
                     self.assertEqual(found, sorted(full_boxes_of(shape)))
-                    self.assertEqual(len(found), NUMBERS[shape])
 
     def test_what_they_are(self):
-        for shape in [(), (1,), (4, 3, 2), (3, 3, 3), (5, 2, 1, 1), (14, 2), (2,) * 5, (15, 1), (2,) + (1,) * 14]:
-            found = full_boxes(shape)
-            self.assertTrue(all(is_full(box) and shape_of(box) == shape for box in found))
-            self.assertTrue(all(one < other for one, other in zip(found, found[1:])))
+        # Full boxes of the shape, each one once, as many as there are: so none is missing.
+        for shape in SHAPES:
+            if NUMBERS[shape] <= 200:
+                found = full_boxes(shape)
+                self.assertTrue(all(is_full(box) and shape_of(box) == shape for box in found))
+                self.assertTrue(all(one < other for one, other in zip(found, found[1:])))
+                self.assertEqual(len(found), NUMBERS[shape])
 
     def test_too_many(self):
         for shape in SHAPES:
